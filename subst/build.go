@@ -1,9 +1,8 @@
 package subst
 
 import (
-	"slices"
-
 	"euclid/api"
+	"euclid/clone"
 )
 
 // replacer returns what stands in the place of a node, which is below so many binders, and true; or false if the node is copied, and its kids are looked at.
@@ -37,7 +36,7 @@ func (b *builder) copied(t api.Term, binders int, replace replacer) api.Term {
 		return with
 	}
 	b.count()
-	result := api.Term{Kind: t.Kind, Index: t.Index, Name: t.Name, Levels: copiedLevels(t.Levels)}
+	result := api.Term{Kind: t.Kind, Index: t.Index, Name: t.Name, Levels: clone.Levels(t.Levels)}
 	if len(t.Kids) == 0 {
 		return result
 	}
@@ -125,15 +124,4 @@ func binds(kind, kid int) bool {
 		return kid == 2
 	}
 	return false
-}
-
-func copiedLevels(levels []api.Level) []api.Level {
-	if len(levels) == 0 {
-		return nil
-	}
-	result := make([]api.Level, len(levels))
-	for i, l := range levels {
-		result[i] = api.Level{Const: l.Const, Vars: slices.Clone(l.Vars)}
-	}
-	return result
 }

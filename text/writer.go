@@ -6,6 +6,7 @@ import (
 	"strconv"
 
 	"euclid/api"
+	"euclid/fields"
 	"euclid/level"
 	"euclid/term"
 )
@@ -107,7 +108,7 @@ func (w *declWriter) term(t api.Term) {
 }
 
 func (w *declWriter) decl(d api.Decl) {
-	if !hasForm(d) {
+	if !fields.Decl(d) {
 		w.fail(api.ErrForm)
 	}
 	w.add("(", declWords()[d.Kind])
@@ -183,7 +184,7 @@ func (w *declWriter) tree(t api.Tree) {
 
 // splitOrLeaf writes the beginning of a case tree; it returns the rest, the last part first.
 func (w *declWriter) splitOrLeaf(t *api.Tree) []part {
-	if !treeHasForm(t) {
+	if !fields.Tree(t) {
 		w.fail(api.ErrForm)
 	}
 	w.add("(", treeWords()[t.Kind])
@@ -208,38 +209,8 @@ func (w *declWriter) branch(b *api.Branch) []part {
 	}
 	w.add("(", "absurd")
 	w.name(b.Ctor)
-	if !isZeroTree(&b.Tree) {
+	if !fields.NoTree(&b.Tree) {
 		w.fail(api.ErrForm)
 	}
 	return []part{{}}
-}
-
-// hasForm reports whether the kind of a declaration is one, and all fields that it does not use are zero.
-func hasForm(d api.Decl) bool {
-	family, functions := d.Kind == api.DeclFamily, d.Kind == api.DeclFunctions
-	hasValue := d.Kind == api.DeclDef || d.Kind == api.DeclTheorem
-	return (d.Kind == api.DeclAxiom || hasValue || family || functions) &&
-		(!functions || d.Name == "" && isZero(d.Type)) &&
-		(hasValue || isZero(d.Value)) &&
-		(family || d.Fixed == 0 && len(d.Ctors) == 0 && isZeroRec(d.Rec)) &&
-		(functions || len(d.Funs) == 0)
-}
-
-// treeHasForm reports the same for a case tree, without its branches.
-func treeHasForm(t *api.Tree) bool {
-	switch t.Kind {
-	case api.TreeLeaf:
-		return t.Var == 0 && len(t.Branches) == 0
-	case api.TreeSplit:
-		return isZero(t.Body)
-	}
-	return false
-}
-
-func isZero(t api.Term) bool { return term.Same(t, api.Term{}) }
-
-func isZeroRec(r api.Recursor) bool { return r.Params == 0 && isZero(r.Type) && len(r.Rules) == 0 }
-
-func isZeroTree(t *api.Tree) bool {
-	return t.Kind == api.TreeLeaf && treeHasForm(t) && isZero(t.Body)
 }

@@ -1,0 +1,130 @@
+package reduce
+
+import (
+	"slices"
+
+	"euclid/api"
+	"euclid/signature"
+	"euclid/subst"
+)
+
+// attempt attempts to contract a term.
+func (r *reduction) attempt(t api.Term) outcome {
+	s := spineOf(t)
+	switch s.head.Kind {
+	case api.Lam:
+		if len(s.args) > 0 {
+			return done(applied(r.put(s.head.Kids[1], s.args[0]), s.args[1:]))
+		}
+	case api.Let:
+		return done(applied(r.put(s.head.Kids[2], s.head.Kids[1]), s.args))
+	case api.Fst, api.Snd:
+		return projection(s)
+	case api.Const:
+		c := r.find(s.head.Name)
+		rule := r.rules[c.Kind]
+		if c.declared && rule != nil && len(s.head.Levels) == c.Params {
+			return rule(r, s, c)
+		}
+	}
+	return outcome{}
+}
+
+func projection(s spine) outcome {
+	component := 1
+	if s.head.Kind == api.Snd {
+		component = 2
+	}
+	put := func(p api.Term) api.Term {
+		return applied(api.Term{Kind: s.head.Kind, Kids: []api.Term{p}}, s.args)
+	}
+	return outcome{look: &look{
+		scrutinee: s.head.Kids[0],
+		resume: func(seen api.Term) outcome {
+			if seen.Kind != api.Pair {
+				return outcome{}
+			}
+			return done(applied(seen.Kids[component], s.args))
+		},
+		stuck: put,
+		put:   put,
+	}}
+}
+
+// delta unfolds a definition.
+func (r *reduction) delta(s spine, _ constant) outcome {
+	value, ok := signature.Value(r.env, s.head.Name, s.head.Levels)
+	if !ok {
+		return outcome{}
+	}
+	return done(applied(value, s.args))
+}
+
+// iota applies the rule of a recursor.
+func (r *reduction) iota(s spine, c constant) outcome {
+	d := &r.env[c.Decl]
+	indices := r.find(d.Name).domains - d.Fixed
+	first := d.Fixed + 1 + len(d.Ctors) // of the indices
+	at := first + indices               // of the scrutinee
+	if len(s.args) <= at {
+		return outcome{}
+	}
+	return outcome{look: &look{
+		scrutinee: s.args[at],
+		resume: func(seen api.Term) outcome {
+			ctor, fields, ok := r.constructor(seen)
+			if !ok || ctor.Decl != c.Decl {
+				return outcome{}
+			}
+			rule, err := subst.Levels(d.Rec.Rules[ctor.Item], s.head.Levels)
+			if err != api.OK {
+				return outcome{}
+			}
+			return done(applied(rule, slices.Concat(s.args[:first], fields, s.args[at+1:])))
+		},
+		stuck: func(api.Term) api.Term { return s.term() },
+		put:   func(other api.Term) api.Term { return s.with(at, other).term() },
+	}}
+}
+
+// constructor returns the constructor and the fields of a constructor term, and whether a term is one.
+func (r *reduction) constructor(t api.Term) (constant, []api.Term, bool) {
+	s := spineOf(t)
+	if s.head.Kind != api.Const {
+		return constant{}, nil, false
+	}
+	c := r.find(s.head.Name)
+	if !c.declared || c.Kind != api.EntryCtor || len(s.args) != c.domains {
+		return constant{}, nil, false
+	}
+	return c, s.args[r.env[c.Decl].Fixed:], true
+}
+
+// match goes down the case tree of a function.
+func (r *reduction) match(s spine, c constant) outcome {
+	f := &r.env[c.Decl].Funs[c.Item]
+	if len(s.args) < f.Arity {
+		return outcome{}
+	}
+	d := descent{reduction: r, whole: s, vars: arguments(s.args[:f.Arity]), leaf: func(body api.Term, values []api.Term) outcome {
+		body, err := subst.Levels(body, s.head.Levels)
+		if err != api.OK {
+			return outcome{}
+		}
+		return done(applied(r.put(body, values...), s.args[f.Arity:]))
+	}}
+	return d.down(f.Tree)
+}
+
+// selection goes down a case tree; it returns the body of a leaf, and whether one is reached.
+func (r *reduction) selection(tree api.Tree, args []api.Term) (api.Term, bool) {
+	d := descent{reduction: r, vars: arguments(args), leaf: func(body api.Term, values []api.Term) outcome {
+		return done(r.put(body, values...))
+	}}
+	o := d.down(tree)
+	for o.look != nil {
+		seen, _ := r.whnf(o.look.scrutinee)
+		o = o.look.resume(seen)
+	}
+	return o.result, o.done
+}
