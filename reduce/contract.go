@@ -4,7 +4,9 @@ import (
 	"slices"
 
 	"euclid/api"
+	"euclid/constants"
 	"euclid/signature"
+	"euclid/spines"
 	"euclid/subst"
 )
 
@@ -14,16 +16,15 @@ func (r *reduction) attempt(t api.Term) outcome {
 	switch s.head.Kind {
 	case api.Lam:
 		if len(s.args) > 0 {
-			return done(applied(r.put(s.head.Kids[1], s.args[0]), s.args[1:]))
+			return done(spines.Apply(r.put(s.head.Kids[1], s.args[0]), s.args[1:]...))
 		}
 	case api.Let:
-		return done(applied(r.put(s.head.Kids[2], s.head.Kids[1]), s.args))
+		return done(spines.Apply(r.put(s.head.Kids[2], s.head.Kids[1]), s.args...))
 	case api.Fst, api.Snd:
 		return projection(s)
 	case api.Const:
-		c := r.find(s.head.Name)
-		rule := r.rules[c.Kind]
-		if c.declared && rule != nil && len(s.head.Levels) == c.Params {
+		c := r.constants.Find(s.head.Name)
+		if rule := r.rules[c.Kind]; rule != nil && c.Usable(s.head.Levels) {
 			return rule(r, s, c)
 		}
 	}
@@ -36,7 +37,7 @@ func projection(s spine) outcome {
 		component = 2
 	}
 	put := func(p api.Term) api.Term {
-		return applied(api.Term{Kind: s.head.Kind, Kids: []api.Term{p}}, s.args)
+		return spines.Apply(api.Term{Kind: s.head.Kind, Kids: []api.Term{p}}, s.args...)
 	}
 	return outcome{look: &look{
 		scrutinee: s.head.Kids[0],
@@ -44,7 +45,7 @@ func projection(s spine) outcome {
 			if seen.Kind != api.Pair {
 				return outcome{}
 			}
-			return done(applied(seen.Kids[component], s.args))
+			return done(spines.Apply(seen.Kids[component], s.args...))
 		},
 		stuck: put,
 		put:   put,
@@ -52,20 +53,18 @@ func projection(s spine) outcome {
 }
 
 // delta unfolds a definition.
-func (r *reduction) delta(s spine, _ constant) outcome {
+func (r *reduction) delta(s spine, _ constants.Constant) outcome {
 	value, ok := signature.Value(r.env, s.head.Name, s.head.Levels)
 	if !ok {
 		return outcome{}
 	}
-	return done(applied(value, s.args))
+	return done(spines.Apply(value, s.args...))
 }
 
 // iota applies the rule of a recursor.
-func (r *reduction) iota(s spine, c constant) outcome {
+func (r *reduction) iota(s spine, c constants.Constant) outcome {
 	d := &r.env[c.Decl]
-	indices := r.find(d.Name).domains - d.Fixed
-	first := d.Fixed + 1 + len(d.Ctors) // of the indices
-	at := first + indices               // of the scrutinee
+	first, at := r.constants.Scrutinee(c)
 	if len(s.args) <= at {
 		return outcome{}
 	}
@@ -80,7 +79,7 @@ func (r *reduction) iota(s spine, c constant) outcome {
 			if err != api.OK {
 				return outcome{}
 			}
-			return done(applied(rule, slices.Concat(s.args[:first], fields, s.args[at+1:])))
+			return done(spines.Apply(rule, slices.Concat(s.args[:first], fields, s.args[at+1:])...))
 		},
 		stuck: func(api.Term) api.Term { return s.term() },
 		put:   func(other api.Term) api.Term { return s.with(at, other).term() },
@@ -88,20 +87,17 @@ func (r *reduction) iota(s spine, c constant) outcome {
 }
 
 // constructor returns the constructor and the fields of a constructor term, and whether a term is one.
-func (r *reduction) constructor(t api.Term) (constant, []api.Term, bool) {
+func (r *reduction) constructor(t api.Term) (constants.Constant, []api.Term, bool) {
 	s := spineOf(t)
-	if s.head.Kind != api.Const {
-		return constant{}, nil, false
+	c, first, ok := r.constants.Constructor(s.head, len(s.args))
+	if !ok {
+		return constants.Constant{}, nil, false
 	}
-	c := r.find(s.head.Name)
-	if !c.declared || c.Kind != api.EntryCtor || len(s.args) != c.domains {
-		return constant{}, nil, false
-	}
-	return c, s.args[r.env[c.Decl].Fixed:], true
+	return c, s.args[first:], true
 }
 
 // match goes down the case tree of a function.
-func (r *reduction) match(s spine, c constant) outcome {
+func (r *reduction) match(s spine, c constants.Constant) outcome {
 	f := &r.env[c.Decl].Funs[c.Item]
 	if len(s.args) < f.Arity {
 		return outcome{}
@@ -111,7 +107,7 @@ func (r *reduction) match(s spine, c constant) outcome {
 		if err != api.OK {
 			return outcome{}
 		}
-		return done(applied(r.put(body, values...), s.args[f.Arity:]))
+		return done(spines.Apply(r.put(body, values...), s.args[f.Arity:]...))
 	}}
 	return d.down(f.Tree)
 }

@@ -4,6 +4,7 @@ import (
 	"slices"
 
 	"euclid/api"
+	"euclid/constants"
 )
 
 // descent goes down a case tree.
@@ -42,12 +43,11 @@ func (d descent) down(tree api.Tree) outcome {
 			if !ok {
 				return outcome{}
 			}
-			name := spineOf(seen).head.Name
-			i := slices.IndexFunc(tree.Branches, func(b api.Branch) bool { return b.Ctor == name })
-			if i < 0 || tree.Branches[i].Absurd {
+			branch, ok := constants.Branch(&tree, spineOf(seen).head.Name)
+			if !ok {
 				return outcome{}
 			}
-			return d.below(tree.Var, fields, ctor.domains-len(fields)).down(tree.Branches[i].Tree)
+			return d.below(tree.Var, fields, ctor.Domains-len(fields)).down(branch.Tree)
 		},
 		stuck: func(api.Term) api.Term { return d.whole.term() },
 		put:   func(other api.Term) api.Term { return d.replaced(tree.Var, other) },

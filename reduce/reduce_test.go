@@ -1,160 +1,20 @@
 package reduce_test
 
 import (
-	"fmt"
-	"strings"
 	"testing"
 
 	"euclid/api"
 	"euclid/reduce"
+	"euclid/sample"
 	"euclid/signature"
+	"euclid/spines"
 	"euclid/term"
-	"euclid/text"
 )
 
-// tm builds a term of a kind that has only kids.
-func tm(kind int, kids ...api.Term) api.Term { return api.Term{Kind: kind, Kids: kids} }
-
-func x(index int) api.Term { return api.Term{Kind: api.Var, Index: index} }
-
-func meta(index int) api.Term { return api.Term{Kind: api.Meta, Index: index} }
-
-func con(name string, levels ...api.Level) api.Term {
-	return api.Term{Kind: api.Const, Name: name, Levels: levels}
-}
-
-// ap applies a term to arguments.
-func ap(f api.Term, args ...api.Term) api.Term {
-	for _, arg := range args {
-		f = tm(api.App, f, arg)
-	}
-	return f
-}
-
-// show returns the text of a term, or what there is of a part of its tree.
-func show(t api.Term) string {
-	s, err := text.Print(t)
-	if err != api.OK {
-		s = fmt.Sprint(t)
-	}
-	return fmt.Sprintf("%.500s", s)
-}
-
-// the reads a term from its text, in which {f a b} is f applied to a and b, and a number is a numeral.
-func the(source string) api.Term {
-	t, rest := sugared(tokens(source))
-	if len(rest) > 0 {
-		panic("more than a term: " + source)
-	}
-	return t
-}
-
-func tokens(source string) []string {
-	for _, sign := range []string{"{", "}", "(", ")"} {
-		source = strings.ReplaceAll(source, sign, " "+sign+" ")
-	}
-	return strings.Fields(source)
-}
-
-func sugared(tokens []string) (api.Term, []string) {
-	if tokens[0] == "{" {
-		f, rest := sugared(tokens[1:])
-		for rest[0] != "}" {
-			var arg api.Term
-			arg, rest = sugared(rest)
-			f = ap(f, arg)
-		}
-		return f, rest[1:]
-	}
-	kinds := map[string]int{"lam": api.Lam, "pi": api.Pi, "sigma": api.Sigma, "pair": api.Pair, "fst": api.Fst, "snd": api.Snd, "let": api.Let, "app": api.App}
-	if kind, ok := kinds[tokens[min(1, len(tokens)-1)]]; ok && tokens[0] == "(" {
-		t, rest := tm(kind), tokens[2:]
-		for rest[0] != ")" {
-			var kid api.Term
-			kid, rest = sugared(rest)
-			t.Kids = append(t.Kids, kid)
-		}
-		return t, rest[1:]
-	}
-	n, depth := 0, 0
-	for n == 0 || depth > 0 {
-		depth += map[string]int{"(": 1, ")": -1}[tokens[n]]
-		n++
-	}
-	if number := 0; tokens[0][0] >= '0' && tokens[0][0] <= '9' {
-		fmt.Sscan(tokens[0], &number)
-		return numeral(number), tokens[1:]
-	}
-	t, _, err := text.Parse(strings.Join(tokens[:n], " "))
-	if err != api.OK {
-		panic(fmt.Sprintf("error %d: %v", err, tokens[:n]))
-	}
-	return t, tokens[n:]
-}
-
-func numeral(n int) api.Term {
-	t := con("Nat.zero")
-	for range n {
-		t = ap(con("Nat.succ"), t)
-	}
-	return t
-}
-
-const (
-	natText = `(family Nat 0 0 (sort [0]) (ctor Nat.zero Nat) (ctor Nat.succ (pi Nat Nat))
-		(rec 1 (pi (pi Nat (sort [u0])) (pi (app #0 Nat.zero) (pi (pi Nat (pi (app #2 #0) (app #3 (app Nat.succ #1)))) (pi Nat (app #3 #0)))))
-			(lam (pi Nat (sort [u0])) (lam (app #0 Nat.zero) (lam (pi Nat (pi (app #2 #0) (app #3 (app Nat.succ #1)))) #1)))
-			(lam (pi Nat (sort [u0])) (lam (app #0 Nat.zero) (lam (pi Nat (pi (app #2 #0) (app #3 (app Nat.succ #1)))) (lam Nat
-				(app (app #1 #0) (app (app (app (app (const Nat.rec [u0]) #3) #2) #1) #0))))))))`
-	// The rules of Vec are not those of its recursor: nil yields its minor premise and a level, and cons is a constant applied to everything.
-	vecText = `(family Vec 1 1 (pi (sort [u0]) (pi Nat (sort [u0])))
-		(ctor Vec.nil (pi (sort [u0]) (app (app (const Vec [u0]) #0) Nat.zero)))
-		(ctor Vec.cons (pi (sort [u0]) (pi Nat (pi #1 (pi (app (app (const Vec [u0]) #2) #1) (app (app (const Vec [u0]) #3) (app Nat.succ #2)))))))
-		(rec 2 prop (lam prop (lam prop (lam prop (lam prop (pair (sort [u1 + 50]) #1 (sort [u0])))))) cons))`
-)
-
-// declTexts are the declarations of the environment of the tests. They are in order, but most have no types.
-var declTexts = []string{
-	natText,
-	"(axiom cons 0 prop)",
-	vecText,
-	"(axiom ax 1 prop)",
-	"(theorem thm 0 Nat Nat.zero)",
-	"(def two 0 Nat (app Nat.succ (app Nat.succ Nat.zero)))",
-	"(def id 1 prop (lam (sort [u0]) (lam #0 #0)))",
-	"(def big 1 prop (sort [u0 + 60]))",
-	"(def apart 0 prop (lam prop (lam prop #0)))",
-	`(functions 0 (fun plus 2 prop (split 0 (branch Nat.zero (leaf #0)) (branch Nat.succ (leaf (app Nat.succ (app (app plus #0) #1)))))))`,
-	// even and odd call each other; odd zero is missing.
-	`(functions 0 (fun even 1 prop (split 0 (branch Nat.zero (leaf two)) (branch Nat.succ (leaf (app odd #0)))))
-		(fun odd 1 prop (split 0 (branch Nat.succ (leaf (app even #0))))))`,
-	// less goes down both arguments, and down a field of the first one; its second branch of succ is never taken.
-	`(functions 0 (fun less 2 prop (split 1 (absurd Nat.zero)
-		(branch Nat.succ (split 0 (branch Nat.zero (leaf (app (app less #0) #1))) (branch Nat.succ (split 3 (branch Nat.succ (leaf (app (app (app (app cons #3) #2) #1) #0))) (absurd Nat.zero)))))
-		(branch Nat.succ (leaf thm)))))`,
-	// head has levels in its leaf, and splits by the constructors of two families.
-	`(functions 1 (fun head 2 prop (split 1 (branch Vec.nil (leaf (const big [u0]))) (branch Vec.cons (leaf (app (app #1 (sort [u0 + 70])) #3))) (branch Nat.succ (split 1 (branch Nat.succ (leaf (app #0 #1))))))))`,
-	"(functions 0 (fun leafy 3 prop (leaf (app (app (app cons #2) (lam Nat #2)) #0))))",
-	"(functions 0 (fun loop 1 prop (leaf (app loop #0))))",
-	// grow needs ten contractions for each succ, and one for zero.
-	"(functions 0 (fun grow 1 prop (split 0 (branch Nat.zero (leaf Nat.zero)) (branch Nat.succ (leaf " +
-		strings.Repeat("(let prop prop ", 9) + "(app grow #9)" + strings.Repeat(")", 9) + ")))))",
-}
+var tm, x, meta, con, ap, the, show, numeral = sample.Node, sample.Var, sample.Meta, sample.Const, spines.Apply, sample.Parse, sample.Show, sample.Numeral
 
 // env is the environment of the tests, none of which changes it.
-var env = library()
-
-func library() []api.Decl {
-	var env []api.Decl
-	for _, s := range declTexts {
-		d, at, err := text.ParseDecl(s)
-		if err != api.OK {
-			panic(fmt.Sprintf("%s: error %d at %d", s, err, at))
-		}
-		env = append(env, d)
-	}
-	return env
-}
+var env = sample.Env()
 
 func wantWhnf(t *testing.T, from, want api.Term) {
 	t.Helper()

@@ -2,28 +2,20 @@ package reduce
 
 import (
 	"euclid/api"
-	"euclid/signature"
-	"euclid/telescope"
+	"euclid/constants"
 )
 
 // reduction is one reduction of a term. It gives up if it is not light.
 type reduction struct {
 	env          []api.Decl
-	constants    map[string]constant // that were looked up
+	constants    *constants.Table
 	contractions int
 	rules        [api.EntryFun + 1]contraction
 	substitute   func(t api.Term, values []api.Term) (api.Term, api.Errno)
 }
 
 // contraction attempts to contract a constant with arguments.
-type contraction func(r *reduction, s spine, c constant) outcome
-
-// constant is what is known of a constant, and, for a family or a constructor, the number of leading function types of its type.
-type constant struct {
-	api.Entry
-	domains  int
-	declared bool
-}
+type contraction func(r *reduction, s spine, c constants.Constant) outcome
 
 // outcome is what comes of an attempt to contract a term: the contraction, if it is done; or else a look that has to be taken at a scrutinee first, if there is one.
 type outcome struct {
@@ -46,7 +38,7 @@ func done(result api.Term) outcome { return outcome{done: true, result: result} 
 func (o outcome) isNothing() bool { return !o.done && o.look == nil }
 
 func newReduction(env []api.Decl, substitute func(t api.Term, values []api.Term) (api.Term, api.Errno)) *reduction {
-	return &reduction{env: env, constants: map[string]constant{}, substitute: substitute, rules: [api.EntryFun + 1]contraction{
+	return &reduction{env: env, constants: constants.New(env), substitute: substitute, rules: [api.EntryFun + 1]contraction{
 		api.EntryDef: (*reduction).delta,
 		api.EntryRec: (*reduction).iota,
 		api.EntryFun: (*reduction).match,
@@ -113,21 +105,6 @@ func (r *reduction) step(t api.Term) (api.Term, bool) {
 		around = append(around, last)
 		t = last.scrutinee
 	}
-}
-
-// find looks a constant up.
-func (r *reduction) find(name string) constant {
-	c, ok := r.constants[name]
-	if !ok {
-		entry, err := signature.Find(r.env, name)
-		c = constant{Entry: entry, declared: err == api.OK}
-		if c.Kind == api.EntryFamily || c.Kind == api.EntryCtor {
-			domains, _ := telescope.All(entry.Type)
-			c.domains = len(domains)
-		}
-		r.constants[name] = c
-	}
-	return c
 }
 
 // put returns a term with values for its first variables.

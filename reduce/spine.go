@@ -4,38 +4,27 @@ import (
 	"slices"
 
 	"euclid/api"
+	"euclid/spines"
 )
 
-// spine is a term as its head and its arguments. (Unlike telescope, it does not copy them, as only the last term of a reduction is a result.)
+// spine is a term as its head and its arguments.
 type spine struct {
 	head api.Term
 	args []api.Term
 }
 
 func spineOf(t api.Term) spine {
-	var args []api.Term
-	for t.Kind == api.App {
-		args = append(args, t.Kids[1])
-		t = t.Kids[0]
-	}
-	slices.Reverse(args)
-	return spine{t, args}
+	head, args := spines.Of(t)
+	return spine{head, args}
 }
 
-func (s spine) term() api.Term { return applied(s.head, s.args) }
+func (s spine) term() api.Term { return spines.Apply(s.head, s.args...) }
 
 // with returns the spine with another argument in the place of one.
 func (s spine) with(at int, arg api.Term) spine {
 	s.args = slices.Clone(s.args)
 	s.args[at] = arg
 	return s
-}
-
-func applied(f api.Term, args []api.Term) api.Term {
-	for _, arg := range args {
-		f = api.Term{Kind: api.App, Kids: []api.Term{f, arg}}
-	}
-	return f
 }
 
 // fits reports whether a term is neither too long nor too deep.

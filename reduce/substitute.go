@@ -2,6 +2,7 @@ package reduce
 
 import (
 	"euclid/api"
+	"euclid/binder"
 	"euclid/subst"
 	"euclid/term"
 )
@@ -35,24 +36,13 @@ func replaced(t api.Term, binders int, with func(free, binders int) api.Term) ap
 	kids := make([]api.Term, len(t.Kids))
 	for i, kid := range t.Kids {
 		below := binders
-		if i > 0 && i == boundKid(t.Kind) {
+		if binder.Below(t.Kind, i) {
 			below++
 		}
 		kids[i] = replaced(kid, below, with)
 	}
 	t.Kids = kids
 	return t
-}
-
-// boundKid returns the number of the kid that is below a binder; kid 0 never is one.
-func boundKid(kind int) int {
-	switch kind {
-	case api.Lam, api.Pi, api.Sigma:
-		return 1
-	case api.Let:
-		return 2
-	}
-	return 0
 }
 
 func variableTerm(index int) api.Term { return api.Term{Kind: api.Var, Index: index} }

@@ -2,6 +2,7 @@ package subst
 
 import (
 	"euclid/api"
+	"euclid/binder"
 	"euclid/clone"
 )
 
@@ -43,7 +44,7 @@ func (b *builder) copied(t api.Term, binders int, replace replacer) api.Term {
 	result.Kids = make([]api.Term, len(t.Kids))
 	for i, kid := range t.Kids {
 		below := binders
-		if binds(t.Kind, i) {
+		if binder.Below(t.Kind, i) {
 			below++
 		}
 		result.Kids[i] = b.copied(kid, below, replace)
@@ -113,15 +114,4 @@ func free(t api.Term, binders int) (int, bool) {
 		return 0, false
 	}
 	return t.Index - binders, true
-}
-
-// binds reports whether a kid is below a binder.
-func binds(kind, kid int) bool {
-	switch kind {
-	case api.Lam, api.Pi, api.Sigma:
-		return kid == 1
-	case api.Let:
-		return kid == 2
-	}
-	return false
 }
