@@ -6,7 +6,6 @@ import (
 
 	"euclid/api"
 	"euclid/conv"
-	"euclid/level"
 	"euclid/reduce"
 	"euclid/sample"
 	"euclid/subst"
@@ -82,21 +81,6 @@ func (m maker) related(t api.Term) api.Term {
 	return t
 }
 
-// below reports whether a short normal form is below another one, by the words of the chapter.
-func below(a, b api.Term) bool {
-	switch {
-	case a.Kind == api.Prop && (b.Kind == api.Prop || b.Kind == api.Sort):
-		return true
-	case a.Kind == api.Sort && b.Kind == api.Sort:
-		return level.Leq(a.Levels[0], b.Levels[0])
-	case a.Kind == api.Pi && b.Kind == api.Pi:
-		return term.Same(a.Kids[0], b.Kids[0]) && below(a.Kids[1], b.Kids[1])
-	case a.Kind == api.Sigma && b.Kind == api.Sigma:
-		return below(a.Kids[0], b.Kids[0]) && below(a.Kids[1], b.Kids[1])
-	}
-	return term.Same(a, b)
-}
-
 // P10.1, P10.2: for random terms, which need not have types, the results are those of the definitions.
 func TestDefinitions(t *testing.T) {
 	m := newMaker(1)
@@ -122,7 +106,7 @@ func TestDefinitions(t *testing.T) {
 			t.Fatalf("Join(%s, %s): got %s, %v, error %d, want %s", show(a), show(b), show(join), ok, err, show(x))
 		}
 		sub, err := conv.Sub(env, a, b)
-		if want := below(x, y); err != api.OK || sub != want {
+		if want := sample.Below(x, y); err != api.OK || sub != want {
 			t.Fatalf("Sub(%s, %s): got %v, error %d, want %v", show(a), show(b), sub, err, want)
 		}
 		switch {

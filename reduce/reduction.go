@@ -3,6 +3,7 @@ package reduce
 import (
 	"euclid/api"
 	"euclid/constants"
+	"euclid/formed"
 )
 
 // reduction is one reduction of a term. It gives up if it is not light.
@@ -77,7 +78,7 @@ func (r *reduction) whnf(t api.Term) (result, last api.Term) {
 // count counts a contraction.
 func (r *reduction) count(result api.Term) {
 	r.contractions++
-	if r.contractions > api.MaxLight || !fits(result) {
+	if r.contractions > api.MaxLight || !formed.Fits(result) {
 		giveUp()
 	}
 }

@@ -26,22 +26,3 @@ func (s spine) with(at int, arg api.Term) spine {
 	s.args[at] = arg
 	return s
 }
-
-// fits reports whether a term is neither too long nor too deep.
-func fits(t api.Term) bool { return new(measure).fits(&t, 1) }
-
-// measure counts the nodes of a term. It stops at the first one that is too many or too deep.
-type measure struct{ nodes int }
-
-func (m *measure) fits(t *api.Term, depth int) bool {
-	m.nodes++
-	if m.nodes > api.MaxNodes || depth > api.MaxDepth {
-		return false
-	}
-	for i := range t.Kids {
-		if !m.fits(&t.Kids[i], depth+1) {
-			return false
-		}
-	}
-	return true
-}

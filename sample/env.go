@@ -5,7 +5,6 @@ import (
 
 	"euclid/api"
 	"euclid/spines"
-	"euclid/text"
 )
 
 const (
@@ -57,15 +56,6 @@ func Env() []api.Decl {
 		env = append(env, Decl(source))
 	}
 	return env
-}
-
-// Decl reads a declaration from its text.
-func Decl(source string) api.Decl {
-	d, _, err := text.ParseDecl(source)
-	if err != api.OK {
-		panic("no declaration: " + source)
-	}
-	return d
 }
 
 // WrongEnvs returns the environment Env and some that are not in order.

@@ -2,6 +2,7 @@ package sample
 
 import (
 	"euclid/api"
+	"euclid/level"
 	"euclid/spines"
 	"euclid/subst"
 	"euclid/term"
@@ -66,3 +67,18 @@ func Short(t api.Term) api.Term {
 
 // ShortNorm returns the short normal form of a term (layer 10).
 func (s *Slow) ShortNorm(t api.Term) api.Term { return Short(s.Expand(s.Norm(t))) }
+
+// Below reports whether a short normal form is below another one (layer 10).
+func Below(a, b api.Term) bool {
+	switch {
+	case a.Kind == api.Prop && (b.Kind == api.Prop || b.Kind == api.Sort):
+		return true
+	case a.Kind == api.Sort && b.Kind == api.Sort:
+		return level.Leq(a.Levels[0], b.Levels[0])
+	case a.Kind == api.Pi && b.Kind == api.Pi:
+		return term.Same(a.Kids[0], b.Kids[0]) && Below(a.Kids[1], b.Kids[1])
+	case a.Kind == api.Sigma && b.Kind == api.Sigma:
+		return Below(a.Kids[0], b.Kids[0]) && Below(a.Kids[1], b.Kids[1])
+	}
+	return term.Same(a, b)
+}

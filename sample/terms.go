@@ -3,7 +3,6 @@ package sample
 
 import (
 	"strconv"
-	"strings"
 
 	"euclid/api"
 	"euclid/spines"
@@ -42,82 +41,4 @@ func Show(t api.Term) string {
 		s = "a term that is not printable: error " + strconv.Itoa(int(err))
 	}
 	return s[:min(len(s), 500)]
-}
-
-// Parse reads a term from its text, in which {f a b} is f applied to a and b, and a number is a numeral.
-func Parse(source string) api.Term {
-	for _, sign := range []string{"{", "}", "(", ")"} {
-		source = strings.ReplaceAll(source, sign, " "+sign+" ")
-	}
-	t, rest := parse(strings.Fields(source))
-	if len(rest) > 0 {
-		panic("more than a term: " + source)
-	}
-	return t
-}
-
-// parse reads a term from the beginning of the tokens, and returns those behind it.
-func parse(tokens []string) (api.Term, []string) {
-	if tokens[0] == "{" {
-		terms, rest := parseAll(tokens[1:], "}")
-		return spines.Apply(terms[0], terms[1:]...), rest
-	}
-	if tokens[0] == "(" {
-		if kind := kindOf(tokens[1]); kind != api.Kinds {
-			kids, rest := parseAll(tokens[2:], ")")
-			return Node(kind, kids...), rest
-		}
-	}
-	if n, err := strconv.Atoi(tokens[0]); err == nil {
-		return Numeral(n), tokens[1:]
-	}
-	// There may be parentheses in a level.
-	end, open := 0, 0
-	for end == 0 || open > 0 {
-		switch tokens[end] {
-		case "(":
-			open++
-		case ")":
-			open--
-		}
-		end++
-	}
-	t, _, err := text.Parse(strings.Join(tokens[:end], " "))
-	if err != api.OK {
-		panic("no term: " + strings.Join(tokens, " "))
-	}
-	return t, tokens[end:]
-}
-
-// parseAll reads terms up to a closing token.
-func parseAll(tokens []string, closing string) ([]api.Term, []string) {
-	var terms []api.Term
-	for tokens[0] != closing {
-		t, rest := parse(tokens)
-		terms, tokens = append(terms, t), rest
-	}
-	return terms, tokens[1:]
-}
-
-// kindOf returns the kind of terms with only kids that a word stands for, or Kinds.
-func kindOf(word string) int {
-	switch word {
-	case "app":
-		return api.App
-	case "lam":
-		return api.Lam
-	case "pi":
-		return api.Pi
-	case "sigma":
-		return api.Sigma
-	case "pair":
-		return api.Pair
-	case "fst":
-		return api.Fst
-	case "snd":
-		return api.Snd
-	case "let":
-		return api.Let
-	}
-	return api.Kinds
 }
